@@ -257,6 +257,22 @@ func TestLongEdge(t *testing.T) {
 	}
 }
 
+// TestClock: from one vector on, a component that goes by itself stays narrow, though the other one's rest is great.
+func TestClock(t *testing.T) {
+	wave := api.Tape{Vars: 2, Ops: []op{variable(0), lit(1000), both(api.TMul, 0, 1), of(api.TSin, 2), lit(1)}, Outs: []int{4, 3}}
+	s := newOf(t, points(0, 0))
+	for n := range 50 {
+		a := ask(t, wave, s, 0x1p-9, 6)
+		if a.e != api.OK {
+			t.Fatalf("step %d: the error %d", n, a.e)
+		}
+		s = a.set
+		if b := boxOf(t, s); ival.Wid(b[0]) > 0x1p-45 || ival.Wid(b[1]) < 0x1p-30 {
+			t.Fatalf("step %d: %v", n, b)
+		}
+	}
+}
+
 // TestFunctions is P9.2 of the kinds beyond roots: x goes on, and y is drawn along by a function of it.
 func TestFunctions(t *testing.T) {
 	r := chance(97)

@@ -42,20 +42,26 @@ func turn(s api.Set, slopes [][]api.Ival, rest []api.Ival) api.Errno {
 }
 
 // weighed are edges as long as R makes them, beside its widest one: the frame is to follow the longest.
+//
+// Where R has no width, no edge has a length: what is aside then stays in its own components, as the frame of nothing does not turn.
 func weighed(edges [][]float64, r []api.Ival) [][]float64 {
 	widest := 0.0
 	for _, x := range r {
 		widest = max(widest, radius(x))
 	}
-	if widest == 0 {
-		return edges
-	}
 	for _, row := range edges {
 		for j := range row {
-			row[j] *= radius(r[j]) / widest
+			row[j] *= weight(r[j], widest)
 		}
 	}
 	return edges
+}
+
+func weight(x api.Ival, widest float64) float64 {
+	if widest == 0 {
+		return 0
+	}
+	return radius(x) / widest
 }
 
 // radius has room wherever x is bounded, which its width has not.
