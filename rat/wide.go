@@ -49,8 +49,11 @@ func (a wide) belowZero() bool { return a.hi>>(wordBits-1) != 0 }
 // hasRoom tells whether an amount can be N, or D.
 func (a wide) hasRoom() bool { return a.hi == 0 && a.lo <= most }
 
-// by divides an amount by d, bit by bit from the second word on. d is from 1 to 2^63, so that twice a rest has room.
+// by divides an amount by d: one of a single word at once, as nearly all are; else bit by bit from the second word on. d is from 1 to 2^63, so that twice a rest has room.
 func (a wide) by(d uint64) (quotient wide, rest uint64) {
+	if a.hi == 0 {
+		return wide{lo: a.lo / d}, a.lo % d
+	}
 	quotient.hi, rest = a.hi/d, a.hi%d
 	for range wordBits {
 		rest = rest<<1 | a.lo>>(wordBits-1)
